@@ -3,6 +3,7 @@ package glean
 
 import (
 	"glean/api"
+	"glean/modules"
 	"glean/patterns"
 )
 
@@ -56,10 +57,10 @@ func readFor(pattern string, texts ...string) (*patterns.Pattern, api.Errno) {
 }
 
 // Pack writes a module into bytes (P7).
-func Pack(m api.Module) (string, api.Errno) { return "", api.OK }
+func Pack(m api.Module) (string, api.Errno) { return modules.Pack(m) }
 
 // Unpack reads a module; with an error, the place of it (P8).
-func Unpack(b string) (api.Module, int, api.Errno) { return api.Module{}, 0, api.OK }
+func Unpack(b string) (api.Module, int, api.Errno) { return modules.Unpack(b) }
 
 // Check tells whether a module's bytes may be played; with an error, the function and the place (P9).
 func Check(b string) (int, int, api.Errno) { return 0, 0, api.OK }
