@@ -3,6 +3,7 @@ package glean
 
 import (
 	"glean/api"
+	"glean/code"
 	"glean/modules"
 	"glean/patterns"
 )
@@ -63,7 +64,13 @@ func Pack(m api.Module) (string, api.Errno) { return modules.Pack(m) }
 func Unpack(b string) (api.Module, int, api.Errno) { return modules.Unpack(b) }
 
 // Check tells whether a module's bytes may be played; with an error, the function and the place (P9).
-func Check(b string) (int, int, api.Errno) { return 0, 0, api.OK }
+func Check(b string) (int, int, api.Errno) {
+	m, place, errno := modules.Unpack(b)
+	if errno != api.OK {
+		return 0, place, errno
+	}
+	return code.Check(m)
+}
 
 // Machine is a machine that plays a module.
 type Machine struct{}

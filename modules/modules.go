@@ -19,14 +19,14 @@ const (
 	funcsSection
 )
 
-// entries is how many functions are played by themselves: those that come
+// Entries is how many functions are played by themselves: those that come
 // first. A module has them all.
-const entries = 3
+const Entries = 3
 
 // maxParams is how many parameters the function of this number may have: none
 // if it is played by itself, as nobody is there who could give arguments.
 func maxParams(function int) int {
-	if function < entries {
+	if function < Entries {
 		return 0
 	}
 	return api.MaxParams

@@ -53,7 +53,7 @@ func arePatterns(texts []string) bool {
 }
 
 func areFuncs(funcs []api.Func) bool {
-	if !isBetween(len(funcs), entries, api.MaxTable) {
+	if !isBetween(len(funcs), Entries, api.MaxTable) {
 		return false
 	}
 	for i, f := range funcs {

@@ -140,7 +140,7 @@ func (r *reader) texts(one func() string) []string {
 
 func (r *reader) funcs() []api.Func {
 	var out []api.Func
-	for count := r.limited(entries, api.MaxTable); len(out) < count && r.errno == api.OK; {
+	for count := r.limited(Entries, api.MaxTable); len(out) < count && r.errno == api.OK; {
 		out = append(out, r.function(len(out)))
 	}
 	return out
