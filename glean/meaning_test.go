@@ -125,6 +125,7 @@ func begins(s string) bool {
 }
 
 func TestLookByTheGrammar(t *testing.T) {
+	t.Parallel()
 	var grow func(s string, left int)
 	grow = func(s string, left int) {
 		at, e := glean.Look(s)

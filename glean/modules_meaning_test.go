@@ -189,6 +189,7 @@ func holdAgainstTheWords(t *testing.T, b string) api.Errno {
 }
 
 func TestUnpackByTheWords(t *testing.T) {
+	t.Parallel()
 	r := rand.New(rand.NewPCG(3, 4))
 	seen := map[api.Errno]int{}
 	for range 40000 {
