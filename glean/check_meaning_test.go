@@ -271,7 +271,7 @@ func TestCheckByTheWords(t *testing.T) {
 	t.Parallel()
 	r := rand.New(rand.NewPCG(5, 6))
 	seen := map[api.Errno]int{}
-	for range 25000 {
+	for range 15000 {
 		m := codeModule(0, asm("end"))
 		functions := []int{r.IntN(7), r.IntN(7)}
 		for _, function := range functions {
@@ -305,6 +305,7 @@ func allCode(parts []string, length int, yield func(string)) {
 func TestCheckByTheWordsOfAllShortCode(t *testing.T) {
 	t.Parallel()
 	m := codeModule(0, "")
+	m.Patterns, m.Funcs = m.Patterns[1:], m.Funcs[:4]
 	hold := func(code string) {
 		m.Funcs[0].Code = code
 		holdCode(t, m)
