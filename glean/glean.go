@@ -4,6 +4,7 @@ package glean
 import (
 	"glean/api"
 	"glean/code"
+	"glean/machine"
 	"glean/modules"
 	"glean/patterns"
 )
@@ -65,27 +66,58 @@ func Unpack(b string) (api.Module, int, api.Errno) { return modules.Unpack(b) }
 
 // Check tells whether a module's bytes may be played; with an error, the function and the place (P9).
 func Check(b string) (int, int, api.Errno) {
+	_, function, place, errno := checked(b)
+	return function, place, errno
+}
+
+// checked reads a module that may be played; with an error, the function and
+// the place.
+func checked(b string) (api.Module, int, int, api.Errno) {
 	m, place, errno := modules.Unpack(b)
 	if errno != api.OK {
-		return 0, place, errno
+		return m, 0, place, errno
 	}
-	return code.Check(m)
+	function, place, errno := code.Check(m)
+	return m, function, place, errno
 }
 
 // Machine is a machine that plays a module.
-type Machine struct{}
+type Machine struct {
+	inner *machine.Machine
+}
 
 // Open makes a machine (P10).
-func Open(b string, records []string, draws []int) (*Machine, api.Errno) { return nil, api.OK }
+func Open(b string, records []string, draws []int) (*Machine, api.Errno) {
+	m, _, _, errno := checked(b)
+	if errno != api.OK {
+		return nil, errno
+	}
+	if !machine.IsScript(records, draws) {
+		return nil, api.ErrScript
+	}
+	return &Machine{machine.New(m, records, draws)}, api.OK
+}
 
 // Go plays so many instructions (P11).
-func (m *Machine) Go(n int) api.Errno { return api.OK }
+func (m *Machine) Go(n int) api.Errno {
+	if n < 0 || n > api.MaxFuel {
+		return api.ErrArg
+	}
+	m.inner.Go(n)
+	return api.OK
+}
 
 // Tell tells how the run stands (P12).
-func (m *Machine) Tell() api.State { return api.State{} }
+func (m *Machine) Tell() api.State { return m.inner.Tell() }
 
 // Keys tells the keys of an array (P12).
-func (m *Machine) Keys(array int) ([]string, api.Errno) { return nil, api.OK }
+func (m *Machine) Keys(array int) ([]string, api.Errno) {
+	keys, found := m.inner.Keys(array)
+	if !found {
+		return nil, api.ErrArg
+	}
+	return keys, api.OK
+}
 
 // Compile makes a module's bytes out of a source; with an error, the place of it (P14).
 func Compile(source string) (string, int, api.Errno) { return "", 0, api.OK }
