@@ -4,9 +4,11 @@ package glean
 import (
 	"glean/api"
 	"glean/code"
+	"glean/compiler"
 	"glean/machine"
 	"glean/modules"
 	"glean/patterns"
+	"glean/syntax"
 )
 
 // Look tells whether a text is a pattern; the place of the first byte that cannot stand there (P3).
@@ -120,4 +122,14 @@ func (m *Machine) Keys(array int) ([]string, api.Errno) {
 }
 
 // Compile makes a module's bytes out of a source; with an error, the place of it (P14).
-func Compile(source string) (string, int, api.Errno) { return "", 0, api.OK }
+func Compile(source string) (string, int, api.Errno) {
+	if len(source) > api.MaxSource {
+		return "", 0, api.ErrLong
+	}
+	program, place, errno := syntax.Read(source)
+	if errno != api.OK {
+		return "", place, errno
+	}
+	b, errno := modules.Pack(compiler.Module(program))
+	return b, 0, errno
+}
