@@ -110,3 +110,18 @@ func TestStepsByTheWords(t *testing.T) {
 		}
 	}
 }
+
+// In a run that has not ended, too, the machine keeps pace with the meaning:
+// what is printed behind so many steps is printed behind Work times as many
+// instructions and Work more.
+func TestTheMachineKeepsPace(t *testing.T) {
+	t.Parallel()
+	records, draws := []string{"a b", "2", "x y z", ""}, []int{2, 1, 0}
+	for _, source := range []string{
+		"BEGIN { while (1) print x += 1; }", "{ print; for (k in a) print k; a[NR]; } END { while (draw) print NR; print; }", "BEGIN { while (1) { ; { ; } if ((i += 1) % 3) continue; print i; } }", "function f(n) { print n; if (n) { f(n - 1); } print n; } BEGIN { f(19); f(20); }", "NR == 2, 0 { print NR; } { print $0; next; } { print; }", "function f(a, b, c, d, e, g, h, i) { return i; } BEGIN { while (1) print f() . f(f(), f()); }", "BEGIN { while (print_ += 1) { print 1 || x, 0 || x, 1 && x, !x, x ? 1 : 2, -x, x . x, x in a, x ~ /a/, //; } }", "BEGIN { while (1) { $1 += 1; a[$1 % 7] += $1; print $0, a[$1 % 7]; } }",
+	} {
+		for limit := 1; limit < 600; limit += 1 + limit/50 {
+			holdMeaning(t, source, records, draws, limit)
+		}
+	}
+}
